@@ -1,0 +1,91 @@
+// Package district: tables of routes of several tenants: see DOC.md.
+package district
+
+import (
+	"district/api"
+	"district/tokens"
+)
+
+// Engine holds the tenants.
+type Engine struct {
+	room    int
+	tenants [api.MaxTenants]member
+	tokens  tokens.Book
+}
+
+// New makes an engine (P3).
+func New(room int) (*Engine, api.Errno) {
+	if room < 1 || room > api.MaxRoom {
+		return nil, api.ErrArg
+	}
+	return &Engine{room: room}, api.OK
+}
+
+// Create makes a tenant, and tells its number and its first token (P3).
+func (x *Engine) Create(quota int) (int, int, api.Errno) {
+	if quota < 1 || quota > api.MaxRoom {
+		return 0, 0, api.ErrArg
+	}
+	number := x.freeNumber()
+	if number >= api.MaxTenants {
+		return 0, 0, api.ErrTenant
+	}
+	if x.quotas()+quota > x.room {
+		return 0, 0, api.ErrRoom
+	}
+	token, fault := x.tokens.First(number)
+	if fault != api.OK {
+		return 0, 0, fault
+	}
+	x.tenants[number] = member{quota: quota}
+	return number, token, api.OK
+}
+
+// Drop ends a tenant (P3).
+func (x *Engine) Drop(tenant int) api.Errno {
+	if !x.isTenant(tenant) {
+		return api.ErrTenant
+	}
+	x.tenants[tenant] = member{}
+	x.tokens.EndAll(tenant)
+	return api.OK
+}
+
+// Derive makes a token out of another (P4).
+func (x *Engine) Derive(token int, rights int) (int, api.Errno) {
+	return x.tokens.Derive(token, rights)
+}
+
+// Revoke ends a token, and all that were made out of it (P4).
+func (x *Engine) Revoke(token int, which int) api.Errno {
+	return x.tokens.Revoke(token, which)
+}
+
+// Insert sets a route (P5).
+func (x *Engine) Insert(token int, addr int, length int, hop int) api.Errno { return api.OK }
+
+// Remove takes a route away (P5).
+func (x *Engine) Remove(token int, addr int, length int) api.Errno { return api.OK }
+
+// Share says by which marks a tenant gives and takes (P6).
+func (x *Engine) Share(token int, gives int, takes int) api.Errno { return api.OK }
+
+// Filter says which prefixes a tenant takes (P6).
+func (x *Engine) Filter(token int, rules []api.Rule) api.Errno { return api.OK }
+
+// Table tells all routes of a tenant's table (P7).
+func (x *Engine) Table(token int) ([]api.Route, api.Errno) { return nil, api.OK }
+
+// Count tells how many there are (P7).
+func (x *Engine) Count(token int) (api.Sums, api.Errno) { return api.Sums{}, api.OK }
+
+// Lookup tells the route for an address (P8).
+func (x *Engine) Lookup(token int, addr int) (api.Route, api.Errno) { return api.Route{}, api.OK }
+
+// Pass tells whether an address may come in by a hop (P8).
+func (x *Engine) Pass(token int, addr int, hop int, strict bool) (bool, api.Errno) {
+	return false, api.OK
+}
+
+// Do carries out a request (P9, P10).
+func (x *Engine) Do(request []byte) []byte { return nil }
