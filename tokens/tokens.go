@@ -34,7 +34,8 @@ func (b *Book) Derive(token int, rights int) (int, api.Errno) {
 	if fault != api.OK {
 		return 0, fault
 	}
-	return b.add(entry{tenant: b.list[token-1].tenant, rights: rights, parent: token})
+	tenant := b.list[token-1].tenant
+	return b.add(entry{tenant: tenant, rights: rights, parent: token})
 }
 
 // Revoke ends a token that was made out of the first one.
