@@ -3,6 +3,8 @@ package district
 
 import (
 	"district/api"
+	"district/filter"
+	"district/prefix"
 	"district/tokens"
 )
 
@@ -62,22 +64,78 @@ func (x *Engine) Revoke(token int, which int) api.Errno {
 }
 
 // Insert sets a route (P5).
-func (x *Engine) Insert(token int, addr int, length int, hop int) api.Errno { return api.OK }
+func (x *Engine) Insert(token int, addr int, length int, hop int) api.Errno {
+	tenant, fault := x.tokens.Tenant(token, api.Write)
+	if fault != api.OK {
+		return fault
+	}
+	if hop < 0 || hop > api.MaxHop || !prefix.Is(addr, length) {
+		return api.ErrArg
+	}
+	route := api.Route{Addr: addr, Len: length, Hop: hop, From: tenant}
+	quota := x.tenants[tenant].quota
+	return x.tenants[tenant].own.Put(route, quota)
+}
 
 // Remove takes a route away (P5).
-func (x *Engine) Remove(token int, addr int, length int) api.Errno { return api.OK }
+func (x *Engine) Remove(token int, addr int, length int) api.Errno {
+	tenant, fault := x.tokens.Tenant(token, api.Write)
+	if fault != api.OK {
+		return fault
+	}
+	if !prefix.Is(addr, length) {
+		return api.ErrArg
+	}
+	return x.tenants[tenant].own.Remove(addr, length)
+}
 
 // Share says by which marks a tenant gives and takes (P6).
-func (x *Engine) Share(token int, gives int, takes int) api.Errno { return api.OK }
+func (x *Engine) Share(token int, gives int, takes int) api.Errno {
+	tenant, fault := x.tokens.Tenant(token, api.Policy)
+	if fault != api.OK {
+		return fault
+	}
+	if gives < 0 || gives > api.MaxMask || takes < 0 || takes > api.MaxMask {
+		return api.ErrArg
+	}
+	x.tenants[tenant].gives = gives
+	x.tenants[tenant].takes = takes
+	return api.OK
+}
 
 // Filter says which prefixes a tenant takes (P6).
-func (x *Engine) Filter(token int, rules []api.Rule) api.Errno { return api.OK }
+func (x *Engine) Filter(token int, rules []api.Rule) api.Errno {
+	tenant, fault := x.tokens.Tenant(token, api.Policy)
+	if fault != api.OK {
+		return fault
+	}
+	made, fault := filter.Make(rules)
+	if fault != api.OK {
+		return fault
+	}
+	x.tenants[tenant].rules = made
+	return api.OK
+}
 
 // Table tells all routes of a tenant's table (P7).
-func (x *Engine) Table(token int) ([]api.Route, api.Errno) { return nil, api.OK }
+func (x *Engine) Table(token int) ([]api.Route, api.Errno) {
+	tenant, fault := x.tokens.Tenant(token, api.Read)
+	if fault != api.OK {
+		return nil, fault
+	}
+	table, _ := x.table(tenant)
+	return table.All(), api.OK
+}
 
 // Count tells how many there are (P7).
-func (x *Engine) Count(token int) (api.Sums, api.Errno) { return api.Sums{}, api.OK }
+func (x *Engine) Count(token int) (api.Sums, api.Errno) {
+	tenant, fault := x.tokens.Tenant(token, api.Read)
+	if fault != api.OK {
+		return api.Sums{}, fault
+	}
+	_, sums := x.table(tenant)
+	return sums, api.OK
+}
 
 // Lookup tells the route for an address (P8).
 func (x *Engine) Lookup(token int, addr int) (api.Route, api.Errno) { return api.Route{}, api.OK }

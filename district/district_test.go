@@ -60,21 +60,20 @@ func TestExampleOfTenants(t *testing.T) {
 	drop(t, x, 0, api.OK)
 	create(t, x, 3, 0, 3, api.OK)
 	drop(t, x, 2, api.ErrTenant)
-	derive(t, x, 1, 0, 0, api.ErrToken)
+	noTable(t, x, 1, api.ErrToken)
 }
 
 func TestExampleOfTokens(t *testing.T) {
-	x := begin(t, 10)
-	create(t, x, 3, 0, 1, api.OK)
-	create(t, x, 2, 1, 2, api.OK)
+	x := theTwo(t)
 	derive(t, x, 1, 9, 3, api.OK)
 	derive(t, x, 3, 1, 4, api.OK)
 	derive(t, x, 3, 2, 0, api.ErrRight)
 	derive(t, x, 4, 0, 0, api.ErrRight)
 	derive(t, x, 1, 16, 0, api.ErrArg)
+	insert(t, x, 3, 0, 0, 1, api.ErrRight)
 	revoke(t, x, 3, 1, api.ErrRight)
 	revoke(t, x, 1, 3, api.OK)
-	derive(t, x, 4, 0, 0, api.ErrToken)
+	noTable(t, x, 4, api.ErrToken)
 	revoke(t, x, 1, 4, api.OK)
 	revoke(t, x, 4, 4, api.ErrToken)
 	revoke(t, x, 1, 2, api.ErrRight)
@@ -190,6 +189,14 @@ func TestEnginesAreApart(t *testing.T) {
 	derive(t, x, 1, 0, 3, api.OK)
 	revoke(t, x, 1, 2, api.OK)
 	derive(t, y, 2, 0, 3, api.OK)
+	insert(t, x, 1, 0, 0, 1, api.OK)
+	share(t, x, 1, 255, 255, api.OK)
+	share(t, y, 2, 255, 255, api.OK)
+	setRules(t, x, 1, api.OK, api.Rule{Le: 16})
+	table(t, y, 2)
+	insert(t, y, 2, 0, 0, 2, api.OK)
+	table(t, x, 1, route(0, 0, 1, 0))
+	table(t, y, 2, route(0, 0, 2, 1))
 }
 
 // Every call at numbers from the whole range: none may panic, and each must end.
@@ -232,19 +239,9 @@ func TestAllNumbers(t *testing.T) {
 	}
 }
 
-// A list that is handed in is not written into, nor what stands behind it.
-func TestListsHandedIn(t *testing.T) {
+// A request that is handed in is not written into, nor what stands behind it.
+func TestRequestHandedIn(t *testing.T) {
 	x := begin(t, 10)
-	create(t, x, 3, 0, 1, api.OK)
-	mark := api.Rule{Allow: true, Addr: 4096, Len: 4, Ge: 5, Le: 6}
-	rules := []api.Rule{mark, mark, mark}
-	x.Filter(1, rules[:1])
-	x.Filter(most, rules[:2])
-	for i, r := range rules {
-		if r != mark {
-			t.Errorf("P2: Filter wrote into place %d", i)
-		}
-	}
 	request := []byte{api.ReqCreate, 1, 7, 7, 7, 7, 7, 7}
 	x.Do(request[:2])
 	if string(request) != "\x01\x01\x07\x07\x07\x07\x07\x07" {

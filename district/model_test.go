@@ -8,11 +8,14 @@ import (
 	"district/district"
 )
 
-// A model says the words of P3 and P4 over again, the plainest way: nothing is ever
+// A model says the words of P3 to P7 over again, the plainest way: nothing is ever
 // forgotten, and each tenant that ever was has a place of its own.
 type modelTenant struct {
 	number, quota int
 	dropped       bool
+	own           []api.Route // as they came
+	gives, takes  int
+	rules         []api.Rule
 }
 
 type modelToken struct {

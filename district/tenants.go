@@ -1,11 +1,18 @@
 package district
 
-import "district/api"
+import (
+	"district/api"
+	"district/filter"
+	"district/routes"
+)
 
 // member is what an engine keeps of a tenant. A tenant's quota is at least 1:
-// where it is 0, no tenant has the number.
+// where it is 0, no tenant has the number, and the member is the zero one.
 type member struct {
-	quota int
+	quota        int
+	gives, takes int
+	rules        filter.Rules
+	own          routes.List
 }
 
 func (x *Engine) isTenant(number int) bool {

@@ -30,17 +30,16 @@ func (b *Book) Derive(token int, rights int) (int, api.Errno) {
 	if rights < 0 || rights > api.Every {
 		return 0, api.ErrArg
 	}
-	fault := b.check(token, rights|api.Grant)
+	tenant, fault := b.Tenant(token, rights|api.Grant)
 	if fault != api.OK {
 		return 0, fault
 	}
-	tenant := b.list[token-1].tenant
 	return b.add(entry{tenant: tenant, rights: rights, parent: token})
 }
 
 // Revoke ends a token that was made out of the first one.
 func (b *Book) Revoke(token int, which int) api.Errno {
-	fault := b.check(token, api.Grant)
+	_, fault := b.Tenant(token, api.Grant)
 	if fault != api.OK {
 		return fault
 	}
@@ -49,6 +48,18 @@ func (b *Book) Revoke(token int, which int) api.Errno {
 	}
 	b.list[which-1].ended = true
 	return api.OK
+}
+
+// Tenant is the tenant that a call with the token is about. It is ErrToken if the token
+// is not alive, ErrRight if it does not have all of the rights.
+func (b *Book) Tenant(token int, rights int) (int, api.Errno) {
+	if !b.alive(token) {
+		return 0, api.ErrToken
+	}
+	if b.list[token-1].rights&rights != rights {
+		return 0, api.ErrRight
+	}
+	return b.list[token-1].tenant, api.OK
 }
 
 // EndAll ends every token of a tenant. Those of an earlier tenant of the same number
@@ -68,16 +79,6 @@ func (b *Book) add(e entry) (int, api.Errno) {
 	b.list[b.given] = e
 	b.given++
 	return b.given, api.OK
-}
-
-func (b *Book) check(token int, rights int) api.Errno {
-	if !b.alive(token) {
-		return api.ErrToken
-	}
-	if b.list[token-1].rights&rights != rights {
-		return api.ErrRight
-	}
-	return api.OK
 }
 
 func (b *Book) wasGiven(token int) bool {

@@ -119,13 +119,44 @@ func TestRightsOfDerived(t *testing.T) {
 	}
 }
 
+func tenant(t *testing.T, b *Book, token, rights, want int, fault api.Errno) {
+	t.Helper()
+	if n, e := b.Tenant(token, rights); n != want || e != fault {
+		t.Errorf("P4: Tenant(%d, %d) = %d, %d, want %d, %d", token, rights, n, e, want, fault)
+	}
+}
+
+// A call with a token is about its tenant, if the token has all of the rights.
+func TestTenant(t *testing.T) {
+	b := tree(t)
+	for rights := 0; rights <= api.Every; rights++ {
+		tenant(t, b, 2, rights, 1, api.OK)
+		tenant(t, b, 6, rights, 0, api.OK)
+		derive(t, b, 2, rights, 7+rights, api.OK)
+	}
+	for has := 0; has <= api.Every; has++ {
+		for asked := 0; asked <= api.Every; asked++ {
+			if asked&^has == 0 {
+				tenant(t, b, 7+has, asked, 1, api.OK)
+			} else {
+				tenant(t, b, 7+has, asked, 0, api.ErrRight)
+			}
+		}
+	}
+	revoke(t, b, 2, 7, api.OK)
+	tenant(t, b, 7, 0, 0, api.ErrToken)
+	tenant(t, b, 7, api.Every, 0, api.ErrToken)
+}
+
 func TestWrongNumbers(t *testing.T) {
 	b := &Book{}
+	tenant(t, b, 1, 0, 0, api.ErrToken)
 	derive(t, b, 1, 0, 0, api.ErrToken)
 	revoke(t, b, 1, 1, api.ErrToken)
 	b = tree(t)
 	before := *b
 	for _, n := range append([]int{0, 7}, far...) {
+		tenant(t, b, n, n, 0, api.ErrToken)
 		derive(t, b, n, n, 0, api.ErrToken)
 		revoke(t, b, n, n, api.ErrToken)
 		revoke(t, b, 1, n, api.ErrRight)
