@@ -9,10 +9,29 @@ import (
 	"district/district"
 )
 
-// answers are what a token tells of its tenant's table.
+// answers are what a token tells of its tenant's table, and of some addresses.
 type answers struct {
 	table []api.Route
 	sums  api.Sums
+	found []told
+}
+
+// told is what a token tells of an address, with Pass by a hop, strict and not.
+type told struct {
+	route         api.Route
+	fault         api.Errno
+	strict, loose bool
+}
+
+func askOf(t *testing.T, x *district.Engine, token, addr, hop int) told {
+	t.Helper()
+	r, e := x.Lookup(token, addr)
+	strict, f := x.Pass(token, addr, hop, true)
+	loose, g := x.Pass(token, addr, hop, false)
+	if e != api.OK && e != api.ErrNone || f != api.OK || g != api.OK {
+		t.Fatalf("P8: Lookup(%d, %d) and Pass by %d: %d, %d, %d", token, addr, hop, e, f, g)
+	}
+	return told{r, e, strict, loose}
 }
 
 func ask(t *testing.T, x *district.Engine, token int) answers {
@@ -22,7 +41,15 @@ func ask(t *testing.T, x *district.Engine, token int) answers {
 	if e != api.OK || f != api.OK {
 		t.Fatalf("P7: Table(%d) and Count: %d, %d", token, e, f)
 	}
-	return answers{l, s}
+	a := answers{table: l, sums: s}
+	for addr := 0; addr <= api.MaxAddr; addr += 4095 {
+		a.found = append(a.found, askOf(t, x, token, addr, addr%4))
+	}
+	return a
+}
+
+func (a answers) equal(b answers) bool {
+	return slices.Equal(a.table, b.table) && a.sums == b.sums && slices.Equal(a.found, b.found)
 }
 
 // known makes a call with a token of tenants 0 to 2, who give and take by the marks 1 and 2.
@@ -37,14 +64,14 @@ func known(r *rand.Rand, x *district.Engine) api.Errno {
 	case 2:
 		return x.Remove(token, addr, length)
 	}
-	return x.Insert(token, addr, length, r.Intn(256))
+	return x.Insert(token, addr, length, drawHop(r))
 }
 
 // stranger makes a call with a token of tenant 3, who does not give by the marks 1 and 2.
 func stranger(r *rand.Rand, x *district.Engine) {
 	token := 4 + r.Intn(2)
 	addr, length := drawPrefix(r)
-	switch r.Intn(7) {
+	switch r.Intn(9) {
 	case 0:
 		x.Share(token, r.Intn(64)*4, r.Intn(256))
 	case 1:
@@ -55,8 +82,13 @@ func stranger(r *rand.Rand, x *district.Engine) {
 		x.Table(token)
 	case 4:
 		x.Revoke(4, 4+r.Intn(3))
+	case 5:
+		x.Lookup(token, addr)
+		x.Pass(token, addr, drawHop(r), true)
+	case 6:
+		x.Derive(token, r.Intn(16))
 	default:
-		x.Insert(token, addr, length, r.Intn(256))
+		x.Insert(token, addr, length, drawHop(r))
 	}
 }
 
@@ -83,7 +115,7 @@ func TestStrangersChangeNothing(t *testing.T) {
 			}
 			for token := 1; token <= 3; token++ {
 				a, b := ask(t, quiet, token), ask(t, loud, token)
-				if !slices.Equal(a.table, b.table) || a.sums != b.sums {
+				if !a.equal(b) {
 					t.Fatalf("P11: seed %d, turn %d: token %d: %v, and with a stranger %v", seed, turn, token, a, b)
 				}
 			}

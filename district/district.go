@@ -69,7 +69,7 @@ func (x *Engine) Insert(token int, addr int, length int, hop int) api.Errno {
 	if fault != api.OK {
 		return fault
 	}
-	if hop < 0 || hop > api.MaxHop || !prefix.Is(addr, length) {
+	if !isHop(hop) || !prefix.Is(addr, length) {
 		return api.ErrArg
 	}
 	route := api.Route{Addr: addr, Len: length, Hop: hop, From: tenant}
@@ -138,11 +138,34 @@ func (x *Engine) Count(token int) (api.Sums, api.Errno) {
 }
 
 // Lookup tells the route for an address (P8).
-func (x *Engine) Lookup(token int, addr int) (api.Route, api.Errno) { return api.Route{}, api.OK }
+func (x *Engine) Lookup(token int, addr int) (api.Route, api.Errno) {
+	tenant, fault := x.tokens.Tenant(token, api.Read)
+	if fault != api.OK {
+		return api.Route{}, fault
+	}
+	if !prefix.IsAddr(addr) {
+		return api.Route{}, api.ErrArg
+	}
+	table, _ := x.table(tenant)
+	return table.Longest(addr)
+}
 
 // Pass tells whether an address may come in by a hop (P8).
 func (x *Engine) Pass(token int, addr int, hop int, strict bool) (bool, api.Errno) {
-	return false, api.OK
+	tenant, fault := x.tokens.Tenant(token, api.Read)
+	if fault != api.OK {
+		return false, fault
+	}
+	if !prefix.IsAddr(addr) || !isHop(hop) {
+		return false, api.ErrArg
+	}
+	table, _ := x.table(tenant)
+	if !strict {
+		return table.Leads(addr), api.OK
+	}
+	// Where no route contains the address, the route is the zero one, and has the hop 0.
+	route, _ := table.Longest(addr)
+	return hop != 0 && route.Hop == hop, api.OK
 }
 
 // Do carries out a request (P9, P10).

@@ -197,6 +197,10 @@ func TestEnginesAreApart(t *testing.T) {
 	insert(t, y, 2, 0, 0, 2, api.OK)
 	table(t, x, 1, route(0, 0, 1, 0))
 	table(t, y, 2, route(0, 0, 2, 1))
+	lookup(t, x, 1, 0, route(0, 0, 1, 0))
+	lookup(t, y, 2, 0, route(0, 0, 2, 1))
+	pass(t, x, 1, 0, 2, true, false)
+	pass(t, y, 2, 0, 2, true, true)
 }
 
 // Every call at numbers from the whole range: none may panic, and each must end.

@@ -8,7 +8,7 @@ import (
 	"district/district"
 )
 
-// A model says the words of P3 to P7 over again, the plainest way: nothing is ever
+// A model says the words of P3 to P8 over again, the plainest way: nothing is ever
 // forgotten, and each tenant that ever was has a place of its own.
 type modelTenant struct {
 	number, quota int

@@ -142,6 +142,65 @@ func (m *model) table(token int) ([]api.Route, api.Sums, api.Errno) {
 	return l, api.Sums{Own: len(u.own), Taken: taken, Dropped: len(offers) - taken, Quota: u.quota}, api.OK
 }
 
+// containing are the routes of the table that contain an address.
+func (m *model) containing(token, addr int) ([]api.Route, api.Errno) {
+	l, _, fault := m.table(token)
+	if fault != api.OK {
+		return nil, fault
+	}
+	if addr < 0 || addr > 65535 {
+		return nil, api.ErrArg
+	}
+	var found []api.Route
+	for _, r := range l {
+		if bits(r.Addr)[:r.Len] == bits(addr)[:r.Len] {
+			found = append(found, r)
+		}
+	}
+	return found, api.OK
+}
+
+func (m *model) lookup(token, addr int) (api.Route, api.Errno) {
+	found, fault := m.containing(token, addr)
+	if fault != api.OK {
+		return api.Route{}, fault
+	}
+	if len(found) == 0 {
+		return api.Route{}, api.ErrNone
+	}
+	return slices.MaxFunc(found, func(a, b api.Route) int { return a.Len - b.Len }), api.OK
+}
+
+func (m *model) pass(token, addr, hop int, strict bool) (bool, api.Errno) {
+	found, fault := m.containing(token, addr)
+	if fault == api.OK && (hop < 0 || hop > 255) {
+		fault = api.ErrArg
+	}
+	if fault != api.OK {
+		return false, fault
+	}
+	if !strict {
+		return slices.ContainsFunc(found, func(r api.Route) bool { return r.Hop != 0 }), api.OK
+	}
+	best, none := m.lookup(token, addr)
+	return hop != 0 && none == api.OK && best.Hop == hop, api.OK
+}
+
+// compareLookup tests what a token tells of an address.
+func compareLookup(t *testing.T, x *district.Engine, m *model, token, addr, hop int) {
+	t.Helper()
+	want, fault := m.lookup(token, addr)
+	if r, e := x.Lookup(token, addr); r != want || e != fault {
+		t.Errorf("P8: Lookup(%d, %d) = %v, %d, want %v, %d", token, addr, r, e, want, fault)
+	}
+	for _, strict := range []bool{true, false} {
+		want, fault := m.pass(token, addr, hop, strict)
+		if p, e := x.Pass(token, addr, hop, strict); p != want || e != fault {
+			t.Errorf("P8: Pass(%d, %d, %d, %v) = %v, %d, want %v, %d", token, addr, hop, strict, p, e, want, fault)
+		}
+	}
+}
+
 // compare tests what a token tells of the table.
 func compare(t *testing.T, x *district.Engine, m *model, token int) {
 	t.Helper()
@@ -169,6 +228,23 @@ func drawPrefix(r *rand.Rand) (int, int) {
 		return 65535, 16
 	}
 	return addr, length
+}
+
+// drawAddr is mostly an address, often the first or the last one of a prefix.
+func drawAddr(r *rand.Rand) int {
+	addr, length := drawPrefix(r)
+	if length < 0 || length > 16 {
+		return r.Intn(65536)
+	}
+	return addr + r.Intn(3)/2*(1<<(16-length)-1)
+}
+
+// drawHop is a hop out of few, so that they meet; now and then it is none.
+func drawHop(r *rand.Rand) int {
+	if r.Intn(8) == 0 {
+		return r.Intn(260) - 2
+	}
+	return r.Intn(4)
 }
 
 func drawRules(r *rand.Rand) []api.Rule {
@@ -201,10 +277,10 @@ func (m *model) drawToken(r *rand.Rand) int {
 func routeStep(t *testing.T, r *rand.Rand, x *district.Engine, m *model) {
 	t.Helper()
 	token := m.drawToken(r)
-	switch r.Intn(12) {
+	switch r.Intn(16) {
 	case 0, 1, 2, 3:
 		addr, length := drawPrefix(r)
-		hop := r.Intn(260) - 2
+		hop := drawHop(r)
 		insert(t, x, token, addr, length, hop, m.insert(token, addr, length, hop))
 	case 4, 5:
 		addr, length := drawPrefix(r)
@@ -215,6 +291,8 @@ func routeStep(t *testing.T, r *rand.Rand, x *district.Engine, m *model) {
 	case 8:
 		rules := drawRules(r)
 		setRules(t, x, token, m.filter(token, rules), rules...)
+	case 9, 10, 11, 12:
+		compareLookup(t, x, m, token, drawAddr(r), drawHop(r))
 	default:
 		compare(t, x, m, token)
 	}
@@ -235,6 +313,7 @@ func TestRoutesAgainstModel(t *testing.T) {
 		}
 		for token := range len(m.tokens) + 2 {
 			compare(t, x, m, token)
+			compareLookup(t, x, m, token, drawAddr(r), drawHop(r))
 		}
 		if t.Failed() {
 			t.Fatalf("seed %d, room %d", seed, room)

@@ -52,3 +52,5 @@ func (x *Engine) wants(tenant int, route api.Route) bool {
 	}
 	return x.tenants[tenant].rules.LetsIn(route.Addr, route.Len)
 }
+
+func isHop(hop int) bool { return hop >= 0 && hop <= api.MaxHop }

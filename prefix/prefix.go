@@ -3,12 +3,12 @@ package prefix
 
 import "district/api"
 
+// IsAddr tells whether a number is an address.
+func IsAddr(number int) bool { return number >= 0 && number <= api.MaxAddr }
+
 // Is tells whether the two numbers are a prefix: no bit of the address is set behind the length.
 func Is(addr int, length int) bool {
-	if addr < 0 || addr > api.MaxAddr {
-		return false
-	}
-	if length < 0 || length > api.Bits {
+	if !IsAddr(addr) || length < 0 || length > api.Bits {
 		return false
 	}
 	return head(addr, length) == addr

@@ -16,6 +16,19 @@ const (
 // bits are the bits of an address as a text, the highest first.
 func bits(addr int) string { return fmt.Sprintf("%016b", addr) }
 
+func TestAddresses(t *testing.T) {
+	for n := -70000; n <= 140000; n++ {
+		if IsAddr(n) != (n >= 0 && n < 65536) {
+			t.Fatalf("IsAddr(%d) is %v", n, IsAddr(n))
+		}
+	}
+	for _, n := range []int{least, least + 1, -1 << 32, 1 << 32, most - 1, most} {
+		if IsAddr(n) {
+			t.Errorf("IsAddr(%d) is true", n)
+		}
+	}
+}
+
 func TestIsOfAllAddressesAndLengths(t *testing.T) {
 	for addr := 0; addr <= api.MaxAddr; addr++ {
 		text := bits(addr)

@@ -31,6 +31,29 @@ func (l *List) Has(addr int, length int) bool {
 	return l.standsAt(place, addr, length)
 }
 
+// Longest is the route with the greatest Len of those that contain an address. It is
+// ErrNone if none does.
+func (l *List) Longest(addr int) (api.Route, api.Errno) {
+	// Of two prefixes that contain one address the longer stands behind the other in the
+	// order of prefixes: it is the last one that counts.
+	for i := l.count - 1; i >= 0; i-- {
+		if prefix.Contains(l.list[i].Addr, l.list[i].Len, addr) {
+			return l.list[i], api.OK
+		}
+	}
+	return api.Route{}, api.ErrNone
+}
+
+// Leads tells whether some route that contains an address has another Hop than 0.
+func (l *List) Leads(addr int) bool {
+	for i := 0; i < l.count; i++ {
+		if l.list[i].Hop != 0 && prefix.Contains(l.list[i].Addr, l.list[i].Len, addr) {
+			return true
+		}
+	}
+	return false
+}
+
 // Put sets a route, in the place of one of the same prefix. It is ErrQuota if there is
 // none of this prefix, and as many routes as there may be.
 func (l *List) Put(route api.Route, most int) api.Errno {

@@ -145,3 +145,60 @@ func TestAgainstSlice(t *testing.T) {
 		}
 	}
 }
+
+func longest(t *testing.T, l *List, addr int, want api.Route, fault api.Errno) {
+	t.Helper()
+	if r, e := l.Longest(addr); r != want || e != fault {
+		t.Errorf("P8: Longest(%d) = %v, %d, want %v, %d", addr, r, e, want, fault)
+	}
+}
+
+func leads(t *testing.T, l *List, addr int, want bool) {
+	t.Helper()
+	if l.Leads(addr) != want {
+		t.Errorf("P8: Leads(%d) is not %v", addr, want)
+	}
+}
+
+func TestLongestAndLeads(t *testing.T) {
+	var l List
+	longest(t, &l, 0, api.Route{}, api.ErrNone)
+	leads(t, &l, 0, false)
+	put(t, &l, route(0, 0, 0, 3), 9, api.OK)
+	put(t, &l, route(32768, 1, 1, 2), 9, api.OK)
+	put(t, &l, route(65535, 16, 0, 1), 9, api.OK)
+	longest(t, &l, 0, route(0, 0, 0, 3), api.OK)
+	longest(t, &l, 32767, route(0, 0, 0, 3), api.OK)
+	longest(t, &l, 32768, route(32768, 1, 1, 2), api.OK)
+	longest(t, &l, 65534, route(32768, 1, 1, 2), api.OK)
+	longest(t, &l, 65535, route(65535, 16, 0, 1), api.OK)
+	leads(t, &l, 32767, false)
+	leads(t, &l, 32768, true)
+	leads(t, &l, 65535, true)
+	for _, n := range []int{-1 << 63, -65536, -1, 65536, 98304, 1<<63 - 1} {
+		longest(t, &l, n, api.Route{}, api.ErrNone)
+		leads(t, &l, n, false)
+	}
+	remove(t, &l, 32768, 1, api.OK)
+	longest(t, &l, 32768, route(0, 0, 0, 3), api.OK)
+	leads(t, &l, 65535, false)
+}
+
+// A chain of a route of every length down to one address: each address is told by how
+// many bits it has in common with that one.
+func TestLongestOfAChain(t *testing.T) {
+	for _, end := range []int{0, 65535, 0x5555, 0xaaaa} {
+		var l List
+		for length := api.Bits; length >= 0; length-- {
+			put(t, &l, route(end>>(16-length)<<(16-length), length, length, 0), 64, api.OK)
+		}
+		for addr := 0; addr <= api.MaxAddr; addr++ {
+			common := 16
+			for addr>>(16-common) != end>>(16-common) {
+				common--
+			}
+			longest(t, &l, addr, route(end>>(16-common)<<(16-common), common, common, 0), api.OK)
+			leads(t, &l, addr, common > 0)
+		}
+	}
+}
