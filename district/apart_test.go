@@ -9,11 +9,13 @@ import (
 	"district/district"
 )
 
-// answers are what a token tells of its tenant's table, and of some addresses.
+// answers are what a token tells of its tenant's table, and of some addresses; raw is what
+// requests for the table and the sums are answered.
 type answers struct {
 	table []api.Route
 	sums  api.Sums
 	found []told
+	raw   []byte
 }
 
 // told is what a token tells of an address, with Pass by a hop, strict and not.
@@ -42,6 +44,7 @@ func ask(t *testing.T, x *district.Engine, token int) answers {
 		t.Fatalf("P7: Table(%d) and Count: %d, %d", token, e, f)
 	}
 	a := answers{table: l, sums: s}
+	a.raw = slices.Concat(x.Do(list(api.ReqTable, 0, token)), x.Do(list(api.ReqCount, 0, token)))
 	for addr := 0; addr <= api.MaxAddr; addr += 4095 {
 		a.found = append(a.found, askOf(t, x, token, addr, addr%4))
 	}
@@ -49,7 +52,7 @@ func ask(t *testing.T, x *district.Engine, token int) answers {
 }
 
 func (a answers) equal(b answers) bool {
-	return slices.Equal(a.table, b.table) && a.sums == b.sums && slices.Equal(a.found, b.found)
+	return slices.Equal(a.table, b.table) && a.sums == b.sums && slices.Equal(a.found, b.found) && slices.Equal(a.raw, b.raw)
 }
 
 // known makes a call with a token of tenants 0 to 2, who give and take by the marks 1 and 2.
@@ -71,7 +74,7 @@ func known(r *rand.Rand, x *district.Engine) api.Errno {
 func stranger(r *rand.Rand, x *district.Engine) {
 	token := 4 + r.Intn(2)
 	addr, length := drawPrefix(r)
-	switch r.Intn(9) {
+	switch r.Intn(11) {
 	case 0:
 		x.Share(token, r.Intn(64)*4, r.Intn(256))
 	case 1:
@@ -87,6 +90,10 @@ func stranger(r *rand.Rand, x *district.Engine) {
 		x.Pass(token, addr, drawHop(r), true)
 	case 6:
 		x.Derive(token, r.Intn(16))
+	case 7:
+		x.Do(list(api.ReqInsert, 0, token, r.Intn(8)*32, 0, r.Intn(6), r.Intn(256)))
+	case 8:
+		x.Do(list(api.ReqShare, 0, token, r.Intn(64)*4, r.Intn(256), 0)[:4+r.Intn(3)])
 	default:
 		x.Insert(token, addr, length, drawHop(r))
 	}

@@ -6,6 +6,7 @@ import (
 	"district/filter"
 	"district/prefix"
 	"district/tokens"
+	"district/wire"
 )
 
 // Engine holds the tenants.
@@ -169,4 +170,24 @@ func (x *Engine) Pass(token int, addr int, hop int, strict bool) (bool, api.Errn
 }
 
 // Do carries out a request (P9, P10).
-func (x *Engine) Do(request []byte) []byte { return nil }
+func (x *Engine) Do(request []byte) []byte {
+	if !wire.IsRequest(request) {
+		return wire.Answer(api.ErrForm, nil)
+	}
+	switch wire.Byte(request, 0) {
+	case api.ReqCreate:
+		return x.doCreate(request)
+	case api.ReqDerive:
+		return x.doDerive(request)
+	case api.ReqLookup:
+		return x.doLookup(request)
+	case api.ReqPass:
+		return x.doPass(request)
+	case api.ReqTable:
+		return x.doTable(request)
+	case api.ReqCount:
+		return x.doCount(request)
+	}
+	fault := x.change(request)
+	return wire.Answer(fault, nil)
+}

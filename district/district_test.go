@@ -242,13 +242,3 @@ func TestAllNumbers(t *testing.T) {
 		x.Do([]byte{byte(a), 255, 255, 255})
 	}
 }
-
-// A request that is handed in is not written into, nor what stands behind it.
-func TestRequestHandedIn(t *testing.T) {
-	x := begin(t, 10)
-	request := []byte{api.ReqCreate, 1, 7, 7, 7, 7, 7, 7}
-	x.Do(request[:2])
-	if string(request) != "\x01\x01\x07\x07\x07\x07\x07\x07" {
-		t.Errorf("P2: Do wrote into the request: %v", request)
-	}
-}
